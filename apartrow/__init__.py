@@ -1,0 +1,1 @@
+"""Apartrow: things of kinds put in a row or a ring so that alike ones stand apart."""
