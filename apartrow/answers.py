@@ -87,8 +87,9 @@ def lie_in(kinds, heap):
     return True
 
 
-def can_be_made(many, size, heap):
-    usable = sum([min(number, many) for number in tally(heap).values()])
+def can_be_made(many, size, numbers):
+    # A kind stands in a group once, so no more of its things are of use than there are groups.
+    usable = sum([min(number, many) for number in numbers.values()])
     return usable >= many * size
 
 
@@ -165,4 +166,4 @@ class Grouped(Answer):
             return False
         if not lie_in(joined(self.groups), heap):
             return False
-        return not can_be_made(len(self.groups) + 1, size, heap)
+        return not can_be_made(len(self.groups) + 1, size, tally(heap))

@@ -1,9 +1,10 @@
 """Heaps: lists of kinds, one for each thing, and how many things of a kind there are."""
 
-from apartrow.errors import BadHeap
+from apartrow.errors import BadHeap, BadNumber
 
 GREATEST_KIND = 999
 MOST_THINGS = 1000000
+GREATEST_NUMBER = 1000
 
 
 def is_whole(value):
@@ -26,6 +27,11 @@ def check_heap(value):
         raise BadHeap(f"a heap is a list of at most {MOST_THINGS} whole numbers from 0 to {GREATEST_KIND}")
 
 
+def check_number(value):
+    if not is_whole(value) or not 1 <= value <= GREATEST_NUMBER:
+        raise BadNumber(f"a number apart or a size is a whole number from 1 to {GREATEST_NUMBER}")
+
+
 def tally(kinds):
     # Refuses nothing, so that answers can be asked about kinds beyond the bounds, too.
     numbers = {}
@@ -34,11 +40,25 @@ def tally(kinds):
     return numbers
 
 
+def most_alike(numbers):
+    return max(list(numbers.values()), default=0)
+
+
 def top_kinds(numbers):
-    if len(numbers) == 0:
-        return []
-    most = max(numbers.values())
+    most = most_alike(numbers)
     return [kind for kind in sorted(numbers) if numbers[kind] == most]
+
+
+def commonest_first(numbers):
+    # Kinds of one number go by their size, so that the order of a heap doesn't count.
+    return sorted(numbers, key=lambda kind: (-numbers[kind], kind))
+
+
+def laid_out(numbers, kinds):
+    things = []
+    for kind in kinds:
+        things.extend([kind] * numbers[kind])
+    return things
 
 
 def counts(heap):

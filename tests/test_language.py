@@ -17,6 +17,8 @@ METHODS = (
     "items join keys ljust lower lstrip partition pop remove replace reverse rfind rjust rpartition rsplit rstrip "
     "setdefault split splitlines startswith strip update upper values zfill bit_length"
 ).split()
+WALKED = "zip enumerate reversed range items keys values".split()
+WALKERS = "list tuple dict sorted sum any all enumerate zip".split()
 OWN_VALUES = "count index title find get join lower upper split strip copy add".split()
 UNUSED_WORDS = (
     "type typing typing_extensions enum Enum IntEnum StrEnum Flag IntFlag Generic Protocol ABC ABCMeta namedtuple "
@@ -115,6 +117,104 @@ class TreeTest(unittest.TestCase):
         self.assertEqual(kept & pythons - set(OWN_VALUES), set())
         for name, node in nodes(ast.Attribute):
             self.assertIn(node.attr, own | kept | set(METHODS), name)
+
+    def test_is_stands_beside_none_true_and_false(self):
+        for name, node in nodes(ast.Compare):
+            if any(isinstance(sign, (ast.Is, ast.IsNot)) for sign in node.ops):
+                self.assertIsInstance(node.comparators[0], ast.Constant, f"{name}:{node.lineno}")
+
+    def test_texts_hold_plain_names(self):
+        for name, node in nodes(ast.FormattedValue):
+            self.assertIsInstance(node.value, ast.Name, f"{name}:{node.lineno}")
+            self.assertIsNone(node.format_spec, f"{name}:{node.lineno}")
+        for name, node in nodes(ast.Constant):
+            self.assertNotIn("%", str(node.value), f"{name}:{node.lineno}")
+
+    def test_the_top_of_a_file(self):
+        for path, tree in trees():
+            self.assertIsNotNone(ast.get_docstring(tree), path.name)
+            for node in tree.body[1:]:
+                self.assertIsInstance(
+                    node, (ast.ImportFrom, ast.FunctionDef, ast.ClassDef, ast.Assign), f"{path.name}:{node.lineno}"
+                )
+                if isinstance(node, ast.Assign):
+                    ast.literal_eval(node.value)
+            bound = top_names(tree)
+            self.assertEqual(len(bound), len(set(bound)), path.name)
+
+    def test_no_local_is_called_like_a_class_or_an_import(self):
+        for path, tree in trees():
+            taken = {alias.name for node in tree.body if isinstance(node, ast.ImportFrom) for alias in node.names}
+            taken |= {node.name for node in tree.body if isinstance(node, ast.ClassDef)}
+            for node in ast.walk(tree):
+                if isinstance(node, ast.arg):
+                    self.assertNotIn(node.arg, taken, f"{path.name}:{node.lineno}")
+                if isinstance(node, ast.Name) and isinstance(node.ctx, ast.Store):
+                    self.assertNotIn(node.id, taken, f"{path.name}:{node.lineno}")
+
+    def test_names_are_drawn_from_the_file_that_defines_them(self):
+        defined = {
+            path.stem: [name for node in tree.body if not isinstance(node, ast.ImportFrom) for name in bound_by(node)]
+            for path, tree in trees()
+        }
+        for name, node in nodes(ast.ImportFrom):
+            for alias in node.names:
+                self.assertIsNone(alias.asname, name)
+                self.assertIn(alias.name, defined[node.module.split(".")[1]], name)
+
+    def test_no_two_files_draw_from_one_another(self):
+        drawn = {path.stem: set() for path in files()}
+        for name, node in nodes(ast.ImportFrom):
+            drawn[name[:-3]].add(node.module.split(".")[1])
+        while drawn:
+            free = [name for name in drawn if not drawn[name] & set(drawn)]
+            self.assertNotEqual(free, [], "files that draw from one another")
+            drawn = {name: drawn[name] for name in drawn if name not in free}
+
+    def test_walked_at_once(self):
+        for path, tree in trees():
+            fine = {id(place) for node in ast.walk(tree) for place in walking_places(node)}
+            for node in ast.walk(tree):
+                if isinstance(node, ast.Call) and called(node) in WALKED:
+                    self.assertIn(id(node), fine, f"{path.name}:{node.lineno}")
+
+    def test_sets_are_neither_kept_nor_walked(self):
+        for path, tree in trees():
+            fine = set()
+            for node in ast.walk(tree):
+                if isinstance(node, ast.Call) and called(node) in ("sorted", "len"):
+                    fine |= {id(part) for part in node.args}
+                if isinstance(node, ast.Compare):
+                    fine |= {id(part) for part in [node.left] + node.comparators}
+            for node in ast.walk(tree):
+                if isinstance(node, ast.Call) and called(node) in ("set", "frozenset"):
+                    self.assertIn(id(node), fine, f"{path.name}:{node.lineno}")
+
+
+def bound_by(node):
+    if isinstance(node, ast.ImportFrom):
+        return [alias.name for alias in node.names]
+    if isinstance(node, ast.Assign):
+        return [node.targets[0].id]
+    return [node.name] if isinstance(node, (ast.FunctionDef, ast.ClassDef)) else []
+
+
+def top_names(tree):
+    return [name for node in tree.body for name in bound_by(node)]
+
+
+def called(node):
+    return getattr(node.func, "id", None) or getattr(node.func, "attr", None)
+
+
+def walking_places(node):
+    if isinstance(node, (ast.For, ast.comprehension)):
+        return [node.iter]
+    if isinstance(node, ast.Call) and called(node) in WALKERS:
+        return node.args if called(node) == "zip" else node.args[:1]
+    if isinstance(node, ast.Call) and called(node) in ("min", "max") and len(node.args) == 1 and not node.keywords:
+        return node.args
+    return []
 
 
 if __name__ == "__main__":
